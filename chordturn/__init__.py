@@ -1,0 +1,1 @@
+"""Chord diagrams, two-row tableaux and their rotation."""
