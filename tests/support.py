@@ -1,10 +1,10 @@
-"""What several tests need: sample words, values of other kinds, and a check of errors.
+"""What several tests need: sample words, diagrams and partitions, values of other kinds, and checks.
 
-The words are found by the definition, without the help of the package.
+The samples are found by the definitions, without the help of the package.
 """
 
 from functools import lru_cache
-from itertools import product
+from itertools import combinations, product
 
 CATALAN = (1, 1, 2, 5, 14, 42, 132)
 
@@ -75,6 +75,128 @@ def joined_by_definition(word):
     return tuple(joined[point] for point in range(1, len(word) + 1))
 
 
+def chords_of(word):
+    """The diagram of 5.2, by the definition of the partners."""
+    joined = joined_by_definition(word)
+    return tuple((point, joined[point - 1]) for point in range(1, len(word) + 1) if point < joined[point - 1])
+
+
+@lru_cache(maxsize=None)
+def diagrams_of_size(size):
+    return tuple(sorted(chords_of(word) for word in words_of_size(size)))
+
+
+def small_diagrams():
+    return [diagram for size in range(len(CATALAN)) for diagram in diagrams_of_size(size)]
+
+
+def large_diagrams():
+    return [chords_of(word) for word in large_words()]
+
+
+def sample_diagrams():
+    return small_diagrams() + large_diagrams()
+
+
+@lru_cache(maxsize=None)
+def pairings_of(points):
+    """All ways to join the points in pairs, each as ascending pairs in ascending order."""
+    if not points:
+        return ((),)
+    first = points[0]
+    found = []
+    for other in points[1:]:
+        rest = tuple(point for point in points[1:] if point != other)
+        found += [((first, other), *pairs) for pairs in pairings_of(rest)]
+    return tuple(found)
+
+
+def pairings_of_size(size):
+    return pairings_of(tuple(range(1, 2 * size + 1)))
+
+
+def chords_cross(one, other):
+    """Whether two chords cross, in either order."""
+    (i, k), (j, l) = sorted([one, other])
+    return i < j < k < l
+
+
+def renumbered(chords, number):
+    """The chords with every point replaced by its new number, sorted as 7.1 says."""
+    return tuple(sorted(tuple(sorted(number(point) for point in chord)) for chord in chords))
+
+
+def turned(chords, steps):
+    """7.1: every point p becomes the point that is congruent to p - steps."""
+    points = range(1, 2 * len(chords) + 1)
+    return renumbered(chords, lambda p: next(q for q in points if (q - p + steps) % len(points) == 0))
+
+
+def mirrored(chords):
+    return renumbered(chords, lambda p: 2 * len(chords) + 1 - p)
+
+
+def blocks_cross(one, other):
+    """Whether two blocks cross: a and c in one, b and d in the other, in the order a < b < c < d."""
+    for first, second in ((one, other), (other, one)):
+        for a, c in combinations(sorted(first), 2):
+            for b, d in combinations(sorted(second), 2):
+                if a < b < c < d:
+                    return True
+    return False
+
+
+def has_crossing_blocks(blocks):
+    return any(blocks_cross(one, other) for one, other in combinations(blocks, 2))
+
+
+@lru_cache(maxsize=None)
+def groupings_of_size(size):
+    """All ways to put the integers from 1 to the size into blocks, crossing or not."""
+    if size == 0:
+        return ((),)
+    found = []
+    for blocks in groupings_of_size(size - 1):
+        found.append(blocks + ((size,),))
+        for place, block in enumerate(blocks):
+            found.append(blocks[:place] + (block + (size,),) + blocks[place + 1:])
+    return tuple(tuple(sorted(blocks)) for blocks in found)
+
+
+@lru_cache(maxsize=None)
+def partitions_of_size(size):
+    return tuple(sorted(blocks for blocks in groupings_of_size(size) if not has_crossing_blocks(blocks)))
+
+
+def small_partitions():
+    return [partition for size in range(len(CATALAN)) for partition in partitions_of_size(size)]
+
+
+def blocks_of(chords):
+    """The partition of a diagram, by 8.2: item i goes on to the item whose odd point its even point is joined to."""
+    joined = {}
+    for i, j in chords:
+        joined[i] = j
+        joined[j] = i
+    following = {item: (joined[2 * item] + 1) // 2 for item in range(1, len(chords) + 1)}
+    blocks = set()
+    for item in following:
+        block = {item}
+        while following[item] not in block:
+            item = following[item]
+            block.add(item)
+        blocks.add(tuple(sorted(block)))
+    return tuple(sorted(blocks))
+
+
+def large_partitions():
+    return [blocks_of(diagram) for diagram in large_diagrams()]
+
+
+def sample_partitions():
+    return small_partitions() + large_partitions()
+
+
 class Plain:
     """An object that has nothing in common with any builtin value."""
 
@@ -114,11 +236,26 @@ def no_text():
     ]
 
 
+def no_tuples():
+    """Values of every kind but tuple."""
+    texts = ["", "U", "UD", "()", "((1, 2),)", "(1,)", "1", " ", "\n", "~" * 10000]
+    return [value for value in no_text() if not isinstance(value, tuple)] + texts
+
+
+def no_integers():
+    """Values of every kind but integer; True and False are among them."""
+    others = [value for value in no_text() if isinstance(value, bool) or not isinstance(value, int)]
+    return others + ["", "1", "0", "U", "UD", (1,), [1], {1}, {1: 1}, b"\x01"]
+
+
 def no_points(size):
     """Values that are not points of a size, of every kind."""
-    others = [value for value in no_text() if isinstance(value, bool) or not isinstance(value, int)]
-    return others + ["", "1", "U", (1,), [1], {1}, {1: 1}, b"\x01",
-                     0, -1, -2, 2 * size + 1, 2 * size + 2, 61, 62, 10 ** 999, -(10 ** 999)]
+    return no_integers() + [0, -1, -2, 2 * size + 1, 2 * size + 2, 61, 62, 10 ** 999, -(10 ** 999)]
+
+
+def no_items(size):
+    """Values that are not items of a partition of a size, of every kind."""
+    return no_integers() + [0, -1, size + 1, size + 2, 31, 10 ** 999, -(10 ** 999)]
 
 
 def assert_raises_field(case, error, field, value, function, *args, **named):
@@ -132,3 +269,9 @@ def assert_raises_field(case, error, field, value, function, *args, **named):
         case.assertEqual(held, value)
         if isinstance(held, tuple):
             case.assertEqual([item.__class__ for item in held], [item.__class__ for item in value])
+
+
+def assert_same(case, found, expected):
+    """Check that two values are equal, and of the same kinds throughout."""
+    case.assertEqual(found, expected)
+    case.assertEqual(repr(found), repr(expected))

@@ -2,7 +2,10 @@ import importlib
 import inspect
 import unittest
 
-# The parameters of every function of the interface that has landed.
+from tests.support import assert_same
+
+# The parameters of every function of the interface that has landed. A parameter
+# that is keyword-only is written with its default.
 FUNCTIONS = {
     "chordturn.words": {
         "validate_word": ["word"],
@@ -27,7 +30,40 @@ FUNCTIONS = {
         "freed_cells": ["tableau"],
         "evacuate": ["tableau"],
     },
+    "chordturn.diagrams": {
+        "validate_diagram": ["diagram"],
+        "is_diagram": ["value"],
+        "diagram_of": ["word"],
+        "word_of_diagram": ["diagram"],
+        "joined_to": ["diagram", "point"],
+        "depths": ["diagram"],
+        "short_chords": ["diagram"],
+        "rotate": ["diagram", ("steps", 1)],
+        "reflect": ["diagram"],
+    },
+    "chordturn.partitions": {
+        "validate_partition": ["partition"],
+        "is_partition": ["value"],
+        "diagram_of_partition": ["partition"],
+        "partition_of": ["diagram"],
+        "complement": ["partition"],
+        "block_of": ["partition", "item"],
+        "is_finer": ["one", "other"],
+        "meet_of": ["one", "other"],
+        "join_of": ["one", "other"],
+        "partition_rank": ["partition"],
+    },
+    "chordturn.numbering": {
+        "word_count": ["size"],
+        "completion_count": ["height", "length"],
+        "word_at": ["size", "number"],
+        "number_of": ["word"],
+        "next_word": ["word"],
+        "previous_word": ["word"],
+    },
 }
+
+CONSTANTS = {"chordturn.words": {"MOST_SIZE": 30}, "chordturn.numbering": {"MOST_COUNTED": 500}}
 
 
 class Interface(unittest.TestCase):
@@ -39,10 +75,20 @@ class Interface(unittest.TestCase):
                 self.assertTrue(inspect.isfunction(function), name)
                 self.assertEqual(function.__module__, module_name, name)
                 parameters = inspect.signature(function).parameters.values()
-                self.assertEqual([parameter.name for parameter in parameters], expected, name)
-                for parameter in parameters:
-                    self.assertEqual(parameter.kind, inspect.Parameter.POSITIONAL_OR_KEYWORD, name)
-                    self.assertIs(parameter.default, inspect.Parameter.empty, name)
+                assert_same(self, [self.shown(parameter) for parameter in parameters], expected)
+
+    def shown(self, parameter):
+        if parameter.kind == inspect.Parameter.KEYWORD_ONLY:
+            return parameter.name, parameter.default
+        self.assertEqual(parameter.kind, inspect.Parameter.POSITIONAL_OR_KEYWORD, parameter)
+        self.assertIs(parameter.default, inspect.Parameter.empty, parameter)
+        return parameter.name
+
+    def test_each_constant(self):
+        for module_name, constants in CONSTANTS.items():
+            module = importlib.import_module(module_name)
+            for name, value in constants.items():
+                assert_same(self, getattr(module, name), value)
 
 
 if __name__ == "__main__":
