@@ -1,7 +1,8 @@
 """Chord diagrams without crossings, their rotation and their reflection."""
 
-from chordturn.checks import is_point, is_true_integer
-from chordturn.errors import InvalidDiagram, InvalidPoint, InvalidSteps
+from chordturn.checks import is_chord, is_point
+from chordturn.errors import InvalidDiagram, InvalidPoint
+from chordturn.matchings import reflect_matching, rotate_matching
 from chordturn.words import MOST_SIZE, partners
 
 
@@ -10,16 +11,8 @@ def validate_diagram(diagram):
     if not isinstance(diagram, tuple) or len(diagram) > MOST_SIZE:
         raise InvalidDiagram(None)
     for index, chord in enumerate(diagram):
-        if not _is_chord(chord, len(diagram)) or not _fits_behind(chord, diagram[:index]):
+        if not is_chord(chord, len(diagram)) or not _fits_behind(chord, diagram[:index]):
             raise InvalidDiagram(index)
-
-
-def _is_chord(value, size):
-    """Return whether a value of any kind is a pair of points of the size, the smaller one first."""
-    if not isinstance(value, tuple) or len(value) != 2:
-        return False
-    low, high = value
-    return is_point(low, size) and is_point(high, size) and low < high
 
 
 def _fits_behind(chord, earlier):
@@ -84,20 +77,10 @@ def short_chords(diagram):
 def rotate(diagram, *, steps=1):
     """Return the diagram in which every point p is renumbered as p - steps, around the circle."""
     validate_diagram(diagram)
-    if not is_true_integer(steps):
-        raise InvalidSteps(steps)
-    count = 2 * len(diagram)
-    # The empty diagram has no points, so nothing is divided by its count of 0.
-    return _renumbered(diagram, [(point - steps - 1) % count + 1 for point in range(1, count + 1)])
+    return rotate_matching(diagram, steps=steps)
 
 
 def reflect(diagram):
     """Return the diagram in which the points are numbered in reverse order."""
     validate_diagram(diagram)
-    return _renumbered(diagram, list(range(2 * len(diagram), 0, -1)))
-
-
-def _renumbered(diagram, numbers):
-    """Return the diagram in which point p has the number with the index p - 1."""
-    chords = [(numbers[low - 1], numbers[high - 1]) for low, high in diagram]
-    return tuple(sorted([(min(chord), max(chord)) for chord in chords]))
+    return reflect_matching(diagram)

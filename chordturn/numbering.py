@@ -2,8 +2,8 @@
 
 from math import comb
 
-from chordturn.checks import is_integer_within
-from chordturn.errors import InvalidNumber, InvalidSize
+from chordturn.checks import is_integer_within, validate_size
+from chordturn.errors import InvalidNumber
 from chordturn.words import MOST_SIZE, size_of
 
 MOST_COUNTED = 500
@@ -11,21 +11,15 @@ MOST_COUNTED = 500
 
 def word_count(size):
     """Return the number of words of a size, also of sizes that have no words in the package."""
-    _validate_size(size, MOST_COUNTED)
+    validate_size(size, 0, MOST_COUNTED)
     return _completions(0, 2 * size)
 
 
 def completion_count(height, length):
     """Return the number of completions of a height that have this length."""
-    _validate_size(height, MOST_COUNTED)
-    _validate_size(length, MOST_COUNTED)
+    validate_size(height, 0, MOST_COUNTED)
+    validate_size(length, 0, MOST_COUNTED)
     return _completions(height, length)
-
-
-def _validate_size(value, most):
-    """Raise InvalidSize if a value of any kind is not an integer from 0 to most."""
-    if not is_integer_within(value, 0, most):
-        raise InvalidSize(value)
 
 
 def _completions(height, length):
@@ -40,7 +34,7 @@ def _completions(height, length):
 
 def word_at(size, number):
     """Return the word of a size with this number."""
-    _validate_size(size, MOST_SIZE)
+    validate_size(size, 0, MOST_SIZE)
     if not is_integer_within(number, 0, word_count(size) - 1):
         raise InvalidNumber(number)
     letters = []

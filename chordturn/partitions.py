@@ -1,8 +1,8 @@
 """Non-crossing partitions, their diagrams, and their order."""
 
-from chordturn.checks import is_integer_within
+from chordturn.checks import is_integer_within, validate_same_size
 from chordturn.diagrams import rotate, validate_diagram
-from chordturn.errors import InvalidPartition, InvalidPoint, SizesDiffer
+from chordturn.errors import InvalidPartition, InvalidPoint
 from chordturn.words import MOST_SIZE
 
 
@@ -145,9 +145,7 @@ def _validate_pair(one, other):
     """Raise the error that is due if two values are not partitions of the same size."""
     validate_partition(one)
     validate_partition(other)
-    sizes = (_item_count(one), _item_count(other))
-    if sizes[0] != sizes[1]:
-        raise SizesDiffer(sizes)
+    validate_same_size(_item_count(one), _item_count(other))
 
 
 def meet_of(one, other):

@@ -121,6 +121,118 @@ def chords_cross(one, other):
     return i < j < k < l
 
 
+@lru_cache(maxsize=None)
+def crossings_by_definition(chords):
+    """10.2: i < j < k < l such that (i, k) and (j, l) are chords, in ascending order."""
+    points = range(1, 2 * len(chords) + 1)
+    return tuple((i, j, k, l) for i, j, k, l in combinations(points, 4) if (i, k) in chords and (j, l) in chords)
+
+
+def uncrossed_by_definition(chords, crossing):
+    """The pair of matchings of 10.3."""
+    i, j, k, l = crossing
+    others = set(chords) - {(i, k), (j, l)}
+    return tuple(sorted(others | {(i, j), (k, l)})), tuple(sorted(others | {(i, l), (j, k)}))
+
+
+def small_matchings(most=4):
+    return [matching for size in range(most + 1) for matching in pairings_of_size(size)]
+
+
+def scattered(number):
+    """Integers that look irregular, from 0 to 32767, and are the same in every run."""
+    state = number + 1
+    while True:
+        state = (state * 1103515245 + 12345) % 2 ** 31
+        yield state >> 16
+
+
+def scattered_matching(size, number):
+    """A matching that looks irregular, and is the same in every run."""
+    numbers = scattered(number)
+    points = list(range(1, 2 * size + 1))
+    chords = []
+    while points:
+        low = points.pop(next(numbers) % len(points))
+        high = points.pop(next(numbers) % len(points))
+        chords.append((min(low, high), max(low, high)))
+    return tuple(sorted(chords))
+
+
+def large_matchings():
+    found = [scattered_matching(size, number) for size in (6, 7, 11, 29, 30) for number in range(4)]
+    for size in (6, 30):
+        found.append(tuple((point, point + size) for point in range(1, size + 1)))
+        found.append(tuple((point, 2 * size + 1 - point) for point in range(1, size + 1)))
+    return found
+
+
+def in_order(terms):
+    """A sum with its matchings in ascending order, and without coefficients that are 0."""
+    return {matching: terms[matching] for matching in sorted(terms) if terms[matching] != 0}
+
+
+def turned_order(terms, number=1):
+    """The same sum, with its matchings in an order that looks irregular."""
+    keys = sorted(terms)
+    numbers = scattered(number)
+    order = [keys.pop(next(numbers) % len(keys)) for _ in range(len(keys))]
+    return {key: terms[key] for key in order}
+
+
+def added(*parts):
+    """The sum of pairs of a sum and a factor."""
+    total = {}
+    for terms, factor in parts:
+        for matching, coefficient in terms.items():
+            total[matching] = total.get(matching, 0) + factor * coefficient
+    return in_order(total)
+
+
+def scattered_sum(size, count, number, digits=1):
+    """A sum of up to so many matchings of a size, in an irregular order, with coefficients of so many digits."""
+    numbers = scattered(number)
+    matchings = pairings_of_size(size)
+    terms = {}
+    for _ in range(count):
+        coefficient = 1 + next(numbers) % 9
+        for _ in range(digits - 1):
+            coefficient = 10 * coefficient + next(numbers) % 10
+        terms[matchings[next(numbers) * len(matchings) >> 15]] = coefficient * (-1) ** (next(numbers) % 2)
+    return terms
+
+
+def sample_sums():
+    """Sums of all sizes, in irregular orders."""
+    found = [{}, {(): 1}, {(): -(10 ** 20 - 1)}, {((1, 2),): 1}, {((1, 2),): 10 ** 20 - 1}]
+    for size, count in ((2, 2), (2, 3), (3, 4), (3, 10), (4, 5), (4, 40), (5, 3), (5, 60)):
+        for number in range(3):
+            found.append(scattered_sum(size, count, number))
+            found.append(scattered_sum(size, count, number + 10, digits=20))
+    # Sums whose matchings cancel on the way: a matching beside the two that it makes.
+    for matching in (((1, 3), (2, 4)), ((1, 4), (2, 5), (3, 6)), ((1, 5), (2, 6), (3, 7), (4, 8))):
+        for crossing in crossings_by_definition(matching):
+            first, second = uncrossed_by_definition(matching, crossing)
+            found += [{second: -7, matching: 7, first: -7}, {second: -7, matching: 7}]
+            found.append({first: 7, second: 2, matching: -7})
+    return found
+
+
+@lru_cache(maxsize=None)
+def expanded_items(matching):
+    """The items of the expansion of a matching: it uncrosses the last crossing, and expands what this makes."""
+    found = crossings_by_definition(matching)
+    if not found:
+        return ((matching, 1),)
+    parts = [(dict(expanded_items(made)), 1) for made in uncrossed_by_definition(matching, found[-1])]
+    return tuple(added(*parts).items())
+
+
+def expanded(terms):
+    """The expansion of a sum."""
+    return added(*((dict(expanded_items(matching)), factor) for matching, factor in terms.items()))
+
+
 def renumbered(chords, number):
     """The chords with every point replaced by its new number, sorted as 7.1 says."""
     return tuple(sorted(tuple(sorted(number(point) for point in chord)) for chord in chords))
@@ -273,5 +385,13 @@ def assert_raises_field(case, error, field, value, function, *args, **named):
 
 def assert_same(case, found, expected):
     """Check that two values are equal, and of the same kinds throughout."""
-    case.assertEqual(found, expected)
-    case.assertEqual(repr(found), repr(expected))
+    case.assertEqual(shown(found), shown(expected))
+    case.assertTrue(found == expected)
+
+
+def shown(value):
+    """The text of a value, also if it holds integers that are too long for Python to write in decimal digits."""
+    try:
+        return repr(value)
+    except ValueError:
+        return hex(value) if isinstance(value, int) else [value.__class__, *map(shown, value)]

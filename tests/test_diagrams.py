@@ -7,77 +7,11 @@ from chordturn.diagrams import (
 )
 from chordturn.errors import InvalidDiagram, InvalidPoint, InvalidSteps, InvalidWord
 from tests.support import (
-    CATALAN, Plain, Refusing, assert_raises_field, assert_same, chords_cross, chords_of, diagrams_of_size,
-    joined_by_definition, large_diagrams, mirrored, no_integers, no_points, no_text, no_tuples, pairings_of_size,
-    sample_diagrams, sample_words, small_diagrams, turned,
+    CATALAN, Plain, assert_raises_field, assert_same, chords_cross, chords_of, diagrams_of_size, joined_by_definition,
+    large_diagrams, mirrored, no_integers, no_points, no_text, pairings_of_size, sample_diagrams, sample_words,
+    small_diagrams, turned,
 )
-
-NESTED_30 = tuple((point, 61 - point) for point in range(1, 31))
-FLAT_30 = tuple((point, point + 1) for point in range(1, 60, 2))
-NESTED_31 = tuple((point, 63 - point) for point in range(1, 32))
-FLAT_31 = tuple((point, point + 1) for point in range(1, 62, 2))
-
-# Tuples that are no diagrams, with the index of the first violation.
-WRONG_TUPLES = [
-    (((1, 3), (2, 4)), 1), (((1, 2), (2, 3)), 1), (((1, 2), (1, 4)), 1), (((1, 2), (1, 2)), 1),
-    (((1, 2),) * 30, 1), (((3, 4), (1, 2)), 1), (((2, 3), (1, 4)), 1), (((2, 1),), 0), (((1, 1),), 0),
-    (((0, 1),), 0), (((1, 3),), 0), (((2, 3),), 0), (((-1, 2),), 0), (((1, 10 ** 999),), 0), (((-(10 ** 999), 2),), 0),
-    (((1, 2), (4, 3)), 1), (((1, 2), (3, 5)), 1), (((1, 4), (2, 4)), 1), (((1, 4), (3, 2)), 1), (((1, 4), (2, 2)), 1),
-    (((1, 4), (2, 3), (5, 7)), 2), (((1, 4), (2, 5), (3, 6)), 1), (((1, 2), (3, 5), (4, 6)), 2),
-    (((1, 6), (2, 4), (3, 5)), 2), (((1, 5), (2, 3), (4, 6)), 2), (((1, 3), (2, 6), (4, 5)), 1),
-    (((1, 6), (4, 5), (2, 3)), 2), (((1, 4), (2, 3), (4, 6)), 2), (((1, 4), (2, 3), (3, 6)), 2),
-    (((1, 6), (2, 5), (3, 5)), 2), (((1, 2), (3, 4), (3, 6)), 2), (((1, 6), (2, 3), (4, 6)), 2),
-    (((),), 0), (((1,),), 0), (((1, 2, 3),), 0), (((1, 2), ()), 1), (((1, 2), (3,)), 1), (((1, 2), (3, 4, 5)), 1),
-    (([1, 2],), 0), (((1, 2), [3, 4]), 1), (((1, 2), {3: 4}), 1), (((1, 2), {3, 4}), 1), (((1, 2), "34"), 1),
-    (((1, 2), b"\x03\x04"), 1), (((1, 2), range(3, 5)), 1), (((1, 2), None), 1), (((1, 2), 3), 1), ((1, 2), 0),
-    (((1, 4), (2, 3), None), 2), (((1, 3), (2, 4), None), 1), ((None, (1, 3), (2, 4)), 0), ((((1, 2),),), 0),
-    ((((1,), (2,)),), 0), ((((1, 2), (3, 4)),), 0), (((1, 2), (3, 4), (3, 5), None), 2),
-    (((True, 2),), 0), (((1, True),), 0), (((False, True),), 0), (((True, 4), (2, 3)), 0), (((1, 4), (True, 3)), 1),
-    (((1, 4), (2, True)), 1), (((1, 2), (3, 4), (True, 6)), 2),
-    ((Refusing(),), 0), (((1, 2), Refusing()), 1), (((1, 2), Plain()), 1), (((1, Refusing()),), 0),
-    (((Refusing(), 2),), 0), (("12",), 0), (("U", "D"), 0), (("UD",), 0), ((b"12", b"34"), 0),
-    (NESTED_30[:29] + ((30, 32),), 29), (NESTED_30[:29], 0), (FLAT_30[:29] + ((59, 61),), 29),
-    (FLAT_30[:29] + ((58, 60),), 29), (NESTED_30[:28] + ((29, 31), (30, 32)), 29), (FLAT_30[:29] + (None,), 29),
-    ((None,) * 30, 0), (((1, 60),) * 30, 1), (((), ()) * 15, 0), ((0,) * 30, 0),
-    (NESTED_31, None), (FLAT_31, None), ((None,) * 31, None), ((0,) * 31, None), (((1, 2),) * 31, None),
-    (((),) * 31, None), (((1, 3), (2, 4)) * 16, None), (tuple(range(100000)), None), (((1, 2),) * 30000, None),
-]
-
-
-def is_point_of(value, size):
-    return value.__class__ is int and value in range(1, 2 * size + 1)
-
-
-def first_wrong_chord(value):
-    """The index that 5.6 asks for in a tuple of 0 to 30 items, or "valid"."""
-    for index, chord in enumerate(value):
-        if chord.__class__ is not tuple or len(chord) != 2:
-            return index
-        if not is_point_of(chord[0], len(value)) or not is_point_of(chord[1], len(value)) or chord[0] >= chord[1]:
-            return index
-        earlier = value[:index]
-        if earlier and chord[0] <= earlier[-1][0]:
-            return index
-        if any(set(chord) & set(other) or chords_cross(chord, other) for other in earlier):
-            return index
-    return "valid"
-
-
-def no_diagrams():
-    """Values of every kind that are no diagrams, with their indices."""
-    values = [(value, None) for value in no_tuples() + [[[1, 2]], [(1, 2)], {(1, 2): 1}, {(1, 2)}]] + WRONG_TUPLES
-    for value in no_text():
-        values.append(((value,), 0))
-        values.append((((1, 2), value), 1))
-        values.append((((1, 4), (2, 3), value), 2))
-    for value in no_points(1):
-        values.append((((1, value),), 0))
-        values.append((((value, 2),), 0))
-    for value in no_points(2):
-        values.append((((1, 2), (3, value)), 1))
-        values.append((((1, 2), (value, 4)), 1))
-        values.append((((1, 4), (value, 3)), 1))
-    return values
+from tests.wrong import FLAT_30, FLAT_31, NESTED_30, NESTED_31, WRONG_TUPLES, first_wrong_chord, no_diagrams
 
 
 class Validation(unittest.TestCase):

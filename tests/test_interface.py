@@ -61,9 +61,39 @@ FUNCTIONS = {
         "next_word": ["word"],
         "previous_word": ["word"],
     },
+    "chordturn.matchings": {
+        "validate_matching": ["matching"],
+        "is_matching": ["value"],
+        "crossings": ["matching"],
+        "uncross": ["matching", "crossing"],
+        "rotate_matching": ["matching", ("steps", 1)],
+        "reflect_matching": ["matching"],
+        "matching_count": ["size"],
+    },
+    "chordturn.expansions": {
+        "validate_sum": ["terms"],
+        "sum_of": ["matching", ("coefficient", 1)],
+        "add_sums": ["terms", "others", ("factor", 1)],
+        "rotate_sum": ["terms", ("steps", 1)],
+        "replace": ["terms", "matching", "crossing"],
+        "expand": ["terms"],
+        "are_equivalent": ["terms", "others"],
+        "certificate": ["terms"],
+        "check_certificate": ["terms", "value"],
+    },
+    "chordturn.values": {
+        "value_of": ["matching", "matrix"],
+        "value_of_sum": ["terms", "matrix"],
+        "rotate_matrix": ["matrix"],
+        "witness": ["terms", "others"],
+    },
 }
 
-CONSTANTS = {"chordturn.words": {"MOST_SIZE": 30}, "chordturn.numbering": {"MOST_COUNTED": 500}}
+CONSTANTS = {
+    "chordturn.words": {"MOST_SIZE": 30},
+    "chordturn.numbering": {"MOST_COUNTED": 500},
+    "chordturn.expansions": {"MOST_EXPANDED": 5},
+}
 
 
 class Interface(unittest.TestCase):
