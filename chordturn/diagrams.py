@@ -3,6 +3,7 @@
 from chordturn.checks import is_chord, is_point
 from chordturn.errors import InvalidDiagram, InvalidPoint
 from chordturn.matchings import reflect_matching, rotate_matching
+from chordturn.numbering import word_at, word_count
 from chordturn.words import MOST_SIZE, partners
 
 
@@ -52,7 +53,22 @@ def joined_to(diagram, point):
     validate_diagram(diagram)
     if not is_point(point, len(diagram)):
         raise InvalidPoint(point)
-    return partners(word_of_diagram(diagram))[point - 1]
+    return joined_points(diagram)[point]
+
+
+def joined_points(chords):
+    """Return the dict from each point of the chords to the point that it is joined to."""
+    joined = {}
+    for low, high in chords:
+        joined[low] = high
+        joined[high] = low
+    return joined
+
+
+def all_diagrams(size):
+    """Return the list of all diagrams of a size, in ascending order."""
+    # The order of the diagrams is not that of their words.
+    return sorted([diagram_of(word_at(size, number)) for number in range(word_count(size))])
 
 
 def depths(diagram):

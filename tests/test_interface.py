@@ -4,8 +4,8 @@ import unittest
 
 from tests.support import assert_same
 
-# The parameters of every function of the interface that has landed. A parameter
-# that is keyword-only is written with its default.
+# The parameters of every function of the interface. A parameter that is
+# keyword-only is written with its default.
 FUNCTIONS = {
     "chordturn.words": {
         "validate_word": ["word"],
@@ -87,12 +87,46 @@ FUNCTIONS = {
         "rotate_matrix": ["matrix"],
         "witness": ["terms", "others"],
     },
+    "chordturn.polynomials": {
+        "validate_polynomial": ["polynomial"],
+        "multiply": ["polynomial", "factor"],
+        "divide": ["polynomial", "divisor"],
+        "q_catalan": ["size"],
+        "cyclotomic": ["order"],
+    },
+    "chordturn.fixed": {
+        "order_of": ["size", "steps"],
+        "is_fixed": ["diagram", "steps"],
+        "fixed_count": ["size", "steps"],
+        "fixed_by_remainder": ["size", "steps"],
+        "fixed_diagrams": ["size", "steps"],
+        "reflection_counts": ["size"],
+        "orbit": ["diagram"],
+        "full_orbit": ["diagram"],
+        "orbit_counts": ["size"],
+    },
+    "chordturn.loops": {
+        "loops": ["inner", "outer"],
+        "loop_count": ["inner", "outer"],
+        "loop_table": ["size"],
+    },
+    "chordturn.strands": {
+        "identity": ["size"],
+        "generator": ["size", "number"],
+        "stack": ["upper", "lower"],
+        "stack_all": ["size", "numbers"],
+        "through_strands": ["diagram"],
+        "factorization": ["diagram"],
+        "closure_loops": ["diagram"],
+    },
 }
 
 CONSTANTS = {
     "chordturn.words": {"MOST_SIZE": 30},
     "chordturn.numbering": {"MOST_COUNTED": 500},
     "chordturn.expansions": {"MOST_EXPANDED": 5},
+    "chordturn.fixed": {"MOST_LISTED": 8},
+    "chordturn.strands": {"MOST_FACTORED": 6},
 }
 
 

@@ -9,6 +9,7 @@ from tests.support import (
     CATALAN, Plain, assert_raises_field, assert_same, large_words, no_integers, no_text, scattered_word, small_words,
     words_of_size,
 )
+from tests.wrong import no_sizes
 
 # C(60, 30) / 31 is the number of words of the greatest size.
 COUNT_30 = 3814986502092304
@@ -59,10 +60,6 @@ def following_word(word):
 
 def preceding_word(word):
     return changed_at_last(word, "U", "D", greatest_completion)
-
-
-def no_sizes(most):
-    return no_integers() + [-1, -2, most + 1, most + 2, 10 ** 999, -(10 ** 999)]
 
 
 class Counting(unittest.TestCase):
@@ -127,12 +124,12 @@ class Counting(unittest.TestCase):
 
 class Faults(unittest.TestCase):
     def test_sizes_that_are_not_counted(self):
-        for value in no_sizes(500):
+        for value in no_sizes(0, 500):
             assert_raises_field(self, InvalidSize, "size", value, word_count, value)
             assert_raises_field(self, InvalidSize, "size", value, word_count, size=value)
 
     def test_the_height_is_checked_before_the_length(self):
-        for value in no_sizes(500):
+        for value in no_sizes(0, 500):
             for valid in (0, 1, 2, 500):
                 assert_raises_field(self, InvalidSize, "size", value, completion_count, value, valid)
                 assert_raises_field(self, InvalidSize, "size", value, completion_count, valid, value)
@@ -143,7 +140,7 @@ class Faults(unittest.TestCase):
         assert_raises_field(self, InvalidSize, "size", -1, completion_count, -1, 501)
 
     def test_word_at_checks_the_size_before_the_number(self):
-        for value in no_sizes(30):
+        for value in no_sizes(0, 30):
             for number in (0, 1, -1, None, True, "0"):
                 assert_raises_field(self, InvalidSize, "size", value, word_at, value, number)
         assert_raises_field(self, InvalidSize, "size", 31, word_at, number=0, size=31)

@@ -35,6 +35,20 @@ METHODS = set(
     " appendleft popleft".split()
 )
 
+# Words that L17 keeps out of all names, and out of strings that are no docstrings.
+BARRED_NAMES = set(
+    "register mro elements open input law version_info with_traceback add_note attrgetter breakpoint builtins compile"
+    " copyright credits delattr dir eval exec exit gc getattr globals hasattr help id importlib license locals"
+    " methodcaller os quit setattr vars sys chr".split()
+)
+BARRED_WORDS = set(
+    "type typing enum Enum IntEnum StrEnum Flag IntFlag Generic Protocol ABC ABCMeta namedtuple NamedTuple TypedDict"
+    " TYPE_CHECKING abstractmethod dataclass overload contextmanager".split()
+)
+
+# Methods that change the list, dict or set that they are called on.
+CHANGING = set("append clear extend insert pop remove reverse setdefault sort update add discard".split())
+
 BARRED_NODES = (
     ast.AsyncFunctionDef, ast.AsyncFor, ast.AsyncWith, ast.Await, ast.Global, ast.Import, ast.Div, ast.MatMult,
     ast.TryStar,
@@ -127,6 +141,119 @@ class Rules(unittest.TestCase):
                 if isinstance(operator, (ast.Is, ast.IsNot)):
                     self.assertIsInstance(right, ast.Constant, place)
                     self.assertIn(right.value, (None, True, False), place)
+
+    def test_exponents_are_small_literals(self):
+        for place, node in self.nodes(ast.BinOp, ast.AugAssign):
+            if isinstance(node.op, ast.Pow):
+                exponent = node.right if isinstance(node, ast.BinOp) else node.value
+                self.assertIsInstance(exponent, ast.Constant, place)
+                self.assertIn(exponent.value, range(65), place)
+
+    def test_no_percent_sign_and_no_barred_word_in_a_string(self):
+        for path, tree in self.trees.items():
+            docstrings = [
+                node.body[0].value for node in ast.walk(tree)
+                if isinstance(node, (ast.Module, ast.FunctionDef, ast.ClassDef)) and ast.get_docstring(node)
+            ]
+            for node in ast.walk(tree):
+                if isinstance(node, ast.Constant) and isinstance(node.value, str) and node not in docstrings:
+                    self.assertNotIn("%", node.value, path)
+                    self.assertFalse(BARRED_WORDS & set(node.value.split()), path)
+
+    def test_no_barred_names(self):
+        for place, node in self.nodes(ast.Name, ast.arg, ast.FunctionDef, ast.ClassDef, ast.Attribute, ast.keyword):
+            names = [getattr(node, field, None) for field in ("id", "arg", "name", "attr")]
+            for name in [name for name in names if name is not None]:
+                self.assertNotIn(name, BARRED_NAMES | BARRED_WORDS, place)
+                self.assertTrue(name == "__init__" or not name.startswith("__"), place)
+
+    def test_no_local_name_has_the_name_of_an_import_a_class_or_a_function_of_its_file(self):
+        for path, tree in self.trees.items():
+            known = {name.name for node in tree.body if isinstance(node, ast.ImportFrom) for name in node.names}
+            known |= {node.name for node in tree.body if isinstance(node, (ast.ClassDef, ast.FunctionDef))}
+            for function in [node for node in ast.walk(tree) if isinstance(node, ast.FunctionDef)]:
+                for node in ast.walk(function):
+                    if isinstance(node, ast.arg):
+                        self.assertNotIn(node.arg, known, (path.name, node.lineno))
+                    if isinstance(node, ast.Name) and isinstance(node.ctx, ast.Store):
+                        self.assertNotIn(node.id, known, (path.name, node.lineno))
+
+    def test_each_name_is_bound_once_at_the_module_level(self):
+        for path, tree in self.trees.items():
+            bound = []
+            for node in tree.body:
+                if isinstance(node, ast.ImportFrom):
+                    bound += [name.asname or name.name for name in node.names]
+                elif isinstance(node, (ast.FunctionDef, ast.ClassDef)):
+                    bound.append(node.name)
+                elif isinstance(node, ast.Assign):
+                    self.assertIsInstance(node.value, ast.Constant, (path.name, node.lineno))
+                    bound += [target.id for target in node.targets]
+            self.assertEqual(len(bound), len(set(bound)), path.name)
+
+    def test_no_two_files_import_from_each_other(self):
+        above = {}
+        for path, tree in self.trees.items():
+            modules = [node.module for node in tree.body if isinstance(node, ast.ImportFrom)]
+            above[path.stem] = {name.split(".")[1] for name in modules if name.startswith("chordturn.")}
+        placed = set()
+        while len(placed) < len(above):
+            ready = {name for name in above if name not in placed and above[name] <= placed}
+            self.assertTrue(ready, set(above) - placed)
+            placed |= ready
+
+    def test_imports_name_the_file_that_defines_the_name(self):
+        defined = {}
+        for path, tree in self.trees.items():
+            names = {node.name for node in tree.body if isinstance(node, (ast.FunctionDef, ast.ClassDef))}
+            names |= {node.targets[0].id for node in tree.body if isinstance(node, ast.Assign)}
+            defined["chordturn." + path.stem] = names
+        for place, node in self.nodes(ast.ImportFrom):
+            for name in node.names:
+                if node.module in defined:
+                    self.assertIn(name.name, defined[node.module], place)
+
+    def test_a_loop_does_not_change_what_it_iterates_over(self):
+        for place, loop in self.nodes(ast.For):
+            over = {node.id for node in ast.walk(loop.iter) if isinstance(node, ast.Name)}
+            for node in [node for part in loop.body for node in ast.walk(part)]:
+                if isinstance(node, ast.Call) and isinstance(node.func, ast.Attribute) and node.func.attr in CHANGING:
+                    if isinstance(node.func.value, ast.Name):
+                        self.assertNotIn(node.func.value.id, over, place)
+                if isinstance(node, ast.Subscript) and not isinstance(node.ctx, ast.Load):
+                    self.assertNotIn(getattr(node.value, "id", None), over, place)
+
+    def test_stored_sets_are_only_asked_and_added_to(self):
+        for place, function in self.nodes(ast.FunctionDef):
+            stored = {
+                node.targets[0].id for node in ast.walk(function)
+                if isinstance(node, ast.Assign) and self.is_set(node.value)
+            }
+            allowed = set()
+            for node in ast.walk(function):
+                if isinstance(node, ast.Assign) and self.is_set(node.value):
+                    allowed.add(node.targets[0])
+                if isinstance(node, ast.Compare) and isinstance(node.ops[0], (ast.In, ast.NotIn)):
+                    allowed.add(node.comparators[0])
+                if isinstance(node, ast.Attribute) and node.attr in ("add", "discard"):
+                    allowed.add(node.value)
+            for node in ast.walk(function):
+                if isinstance(node, ast.Name) and node.id in stored:
+                    self.assertIn(node, allowed, place)
+
+    def is_set(self, node):
+        called = isinstance(node, ast.Call) and isinstance(node.func, ast.Name) and node.func.id == "set"
+        return called or isinstance(node, (ast.Set, ast.SetComp))
+
+    def test_calls_of_builtins_have_only_the_allowed_keywords(self):
+        allowed = {"sorted": ("key", "reverse"), "min": ("key", "default"), "max": ("key", "default"),
+                   "sum": ("start",), "enumerate": ("start",), "zip": ("strict",)}
+        for place, node in self.nodes(ast.Call):
+            if isinstance(node.func, ast.Name) and node.func.id in BUILTINS:
+                for keyword in node.keywords:
+                    self.assertIn(keyword.arg, allowed.get(node.func.id, ()), place)
+            elif isinstance(node.func, ast.Attribute) and node.func.attr != "__init__":
+                self.assertEqual(node.keywords, [], place)
 
     def test_only_own_errors_and_a_few_others_are_caught(self):
         for place, node in self.nodes(ast.ExceptHandler):

@@ -162,3 +162,21 @@ def no_matrices(size):
                 values.append((matrix[:index] + (column,) + matrix[index + 1:], index))
                 values.append((matrix[:index] + (column,) * (2 * size - index), index))
     return values
+
+
+def no_sizes(low, high):
+    """Values of every kind that are no integers from low to high."""
+    return no_integers() + [low - 1, low - 2, high + 1, high + 2, 10 ** 999, -(10 ** 999)]
+
+
+def no_polynomials():
+    """Values of every kind that are no polynomials, with their indices."""
+    values = [(value, None) for value in no_tuples() + [[1, 2], {0: 1}, {1, 2}, range(1, 3), "12", b"12"]]
+    for value in no_integers():
+        values += [((value,), 0), ((1, value), 1), ((value, 1), 0), ((0, value, 0), 1), ((0,) * 1999 + (value,), 1999)]
+        values += [((1, value, value), 1), ((value, 0), 0), ((1, 0, value, "", 3), 2)]
+    return values + [
+        ((0,), 0), ((0, 0), 1), ((1, 0), 1), ((1, 0, 0), 2), ((0, 1, 0), 2), ((1,) * 2000 + (0,), 2000),
+        ((0,) * 2000, 1999), ((10 ** 999, 0), 1), ((None, 0), 0), ((0, True), 1), ((True, 0), 0), (((1,),), 0),
+        ((Refusing(), 0), 0), ((0, Refusing()), 1), ((Plain(),), 0),
+    ]
